@@ -1,0 +1,1 @@
+"""Turnrota: wheels of cheese that are turned by a rota, and what can be told about missed turnings."""
