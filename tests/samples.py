@@ -5,11 +5,17 @@ from itertools import permutations, product
 
 from turnrota.errors import TurnError
 from turnrota.rotas import Rota
+from turnrota.seasons import Season
 
 
 def first_rota():
     """The rota of the document's examples."""
     return Rota(2, [([0], (1, 0)), ([0, 1], (0, 1))])
+
+
+def first_season():
+    """The season of the document's examples."""
+    return Season(first_rota(), 6, 2, [(2, 0, 1), (4, 1, 1)])
 
 
 def nested(depth, inner):
@@ -22,7 +28,7 @@ def nested(depth, inner):
 def odd_values():
     """Any values that are no integers, made anew."""
     return [True, False, None, "", "0", "1", "none", "places 1\nturn 0 move 0", first_rota(), [], (), [0], (0,),
-            [True], (False,), [None], [[]], ((),), [(0,)], (0, (0,)), ["0"], [first_rota()],
+            [True], (False,), [None], [[]], ((),), [(0,)], (0, (0,)), ["0"], [first_rota()], first_season(),
             nested(8, 0), nested(8, True), nested(7, None)]
 
 

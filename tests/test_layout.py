@@ -16,11 +16,24 @@ CLASSES = {
                "Refused": {"__init__": ["value"]}},
     "rotas": {"Rota": {"__init__": ["places", "rows"], "read": ["text"], "__len__": [], "__eq__": ["other"],
                        "__str__": []}},
+    "seasons": {"Season": {"__init__": ["rota", "days", "budget", "looks"], "seen": ["looks"], "but": ["budget"],
+                           "__eq__": ["other"]}},
 }
 FUNCTIONS = {
     "ways": {"place": ["rota", "wheel", "day"], "wheel_on": ["rota", "spot", "day"], "round_days": ["rota", "wheel"],
              "is_due": ["rota", "wheel", "day"], "due_count": ["rota", "wheel", "day"],
              "due_day": ["rota", "wheel", "at"]},
+    "seasons": {"sides": ["season", "misses", "day"], "lain": ["season", "misses", "day"],
+                "broken": ["season", "misses"], "fits": ["season", "misses"]},
+    "deciding": {"possible": ["season"], "least": ["season"], "side": ["season", "wheel", "day"],
+                 "open_wheels": ["season", "day"], "turning": ["season", "day", "wheel"],
+                 "surely_missed": ["season"], "stretches": ["season", "wheel"], "slack": ["season"]},
+    "counting": {"count": ["season"], "count_missed": ["season", "day", "wheel"], "share": ["season", "day", "wheel"],
+                 "count_side": ["season", "wheel", "day"], "lot_at": ["season", "at"],
+                 "number_of": ["season", "misses"], "by_misses": ["season"]},
+    "lying": {"longest_lying": ["season", "wheel"], "lying_misses": ["season", "wheel"],
+              "surely_lain": ["season", "wheel", "day"], "gap": ["rota", "wheel", "misses"],
+              "worst_gap": ["rota", "misses"]},
 }
 
 

@@ -68,4 +68,10 @@ def round_spots(rota, wheel):
 
 def round_dues(rota, wheel):
     """The days of a wheel's round on which it is due, ascending."""
-    return [day for day, spot in enumerate(round_spots(rota, wheel)) if spot in rota.rows[day % len(rota)][0]]
+    return dues_ahead(rota, wheel, len(round_spots(rota, wheel)))
+
+
+def dues_ahead(rota, wheel, day):
+    """The days ahead of a day on which a wheel is due, ascending; they are gone through one by one."""
+    spots = round_spots(rota, wheel)
+    return [due for due in range(day) if spots[due % len(spots)] in rota.rows[due % len(rota)][0]]
