@@ -1,4 +1,4 @@
-"""The document's own examples of sections 1 and 4 to 8, word for word."""
+"""The document's own examples of sections 1 and 4 to 11, word for word."""
 
 import doctest
 import unittest
@@ -34,11 +34,24 @@ EXAMPLES = """
     >>> from turnrota.lying import gap, longest_lying, lying_misses, worst_gap
     >>> longest_lying(season, 0), gap(rota, 0, 0), gap(rota, 0, 1), gap(rota, 0, 3), worst_gap(rota, 10 ** 9)
     (4, 2, 3, 6, 1333333335)
+
+    >>> from turnrota.evenness import even_days, is_best, least_gap, no_longer, ring_gap
+    >>> even_days(7, 3), ring_gap([0, 1, 4], 7, 0), ring_gap([0, 1, 4], 7, 1), least_gap(7, 3, 0), least_gap(7, 3, 1), is_best([1, 3, 5], 7), no_longer([0, 3, 5], [0, 1, 2], 7)
+    ((0, 3, 5), 3, 6, 3, 5, True, True)
+
+    >>> from turnrota.asking import best_looks, left_by, results, settles
+    >>> results(season, 0, 6), left_by(season, 0, 6), left_by(season, 1, 6), best_looks(season, 6), settles(season, 0, 6, 0, 5)
+    ((0, 1), 6, 8, (0,), False)
+
+    >>> from turnrota.rings import Harm, harm_of, lies_for_ever, mean_harm, worst_round
+    >>> mild = Harm(rota, 0, 4, 1, 2)
+    >>> lies_for_ever(mild), mean_harm(mild), harm_of(mild, 4, (1,)), harm_of(mild, 4, ())
+    (False, (1, 4), (1, 4), (0, 1))
 """
 
 
 class Examples(unittest.TestCase):
     def test_word_for_word(self):
         test = doctest.DocTestParser().get_doctest(EXAMPLES, {}, "DOC.md", None, None)
-        self.assertEqual(len(test.examples), 18)
+        self.assertEqual(len(test.examples), 25)
         self.assertEqual(doctest.DocTestRunner().run(test).failed, 0)

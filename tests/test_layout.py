@@ -18,6 +18,7 @@ CLASSES = {
                        "__str__": []}},
     "seasons": {"Season": {"__init__": ["rota", "days", "budget", "looks"], "seen": ["looks"], "but": ["budget"],
                            "__eq__": ["other"]}},
+    "rings": {"Harm": {"__init__": ["rota", "wheel", "span", "misses", "limit"]}},
 }
 FUNCTIONS = {
     "ways": {"place": ["rota", "wheel", "day"], "wheel_on": ["rota", "spot", "day"], "round_days": ["rota", "wheel"],
@@ -34,6 +35,13 @@ FUNCTIONS = {
     "lying": {"longest_lying": ["season", "wheel"], "lying_misses": ["season", "wheel"],
               "surely_lain": ["season", "wheel", "day"], "gap": ["rota", "wheel", "misses"],
               "worst_gap": ["rota", "misses"]},
+    "evenness": {"ring_gap": ["days", "period", "misses"], "even_days": ["period", "turnings"],
+                 "least_gap": ["period", "turnings", "misses"], "is_best": ["days", "period"],
+                 "no_longer": ["days", "others", "period"]},
+    "asking": {"results": ["season", "wheel", "day"], "left_by": ["season", "wheel", "day"],
+               "best_looks": ["season", "day"], "settles": ["season", "wheel", "day", "other", "then"]},
+    "rings": {"lies_for_ever": ["harm"], "mean_harm": ["harm"], "worst_round": ["harm"],
+              "harm_of": ["harm", "days", "missed"]},
 }
 
 

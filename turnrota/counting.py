@@ -5,11 +5,9 @@ the wheel can go on with so many misses and break no look. Wheels go on whatever
 ways of several together are the product of theirs.
 """
 
-from math import gcd
-
 from turnrota.deciding import check_possible, check_turning, if_missed
 from turnrota.errors import NoFit, NoLot
-from turnrota.kinds import is_below
+from turnrota.kinds import is_below, lowest
 from turnrota.seasons import fits
 from turnrota.ways import check_wheel
 
@@ -27,10 +25,7 @@ def count_missed(season, day, wheel):
 
 def share(season, day, wheel):
     """The value of the lots that fit in which this turning was missed, by all that fit."""
-    part = count_missed(season, day, wheel)
-    whole = count(season)
-    common = gcd(part, whole)
-    return part // common, whole // common
+    return lowest(count_missed(season, day, wheel), count(season))
 
 
 def count_side(season, wheel, day):

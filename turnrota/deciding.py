@@ -23,9 +23,7 @@ def least(season):
 
 def side(season, wheel, day):
     """The side of a wheel that is up at the beginning of a day in all cases, or None."""
-    check_wheel(season.rota, wheel)
-    check_possible(season)
-    can_be = [up for up in (0, 1) if possible(season.seen([(day, wheel, up)]))]
+    can_be = possible_sides(season, wheel, day)
     return can_be[0] if len(can_be) == 1 else None
 
 
@@ -68,6 +66,13 @@ def slack(season):
     """What is left of the budget beyond the least number of misses."""
     check_possible(season)
     return season.budget - least(season)
+
+
+def possible_sides(season, wheel, day):
+    """The sides of a wheel that can be up at the beginning of a day, ascending."""
+    check_wheel(season.rota, wheel)
+    check_possible(season)
+    return tuple([up for up in (0, 1) if possible(season.seen([(day, wheel, up)]))])
 
 
 def least_misses(season):

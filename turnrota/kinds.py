@@ -1,5 +1,7 @@
 """The kinds of values that several modules ask for."""
 
+from math import gcd
+
 
 def is_whole(value, least):
     """Whether any value is an integer from `least` on."""
@@ -21,3 +23,9 @@ def is_numeral(word):
     """Whether a word is a number as texts have them: one or two digits, no leading zero."""
     # The comparison refuses leading zeros, and the digits of other scripts, which isdecimal lets pass.
     return word.isdecimal() and len(word) <= 2 and word == str(int(word))
+
+
+def lowest(part, whole):
+    """The value of the fraction part / whole: a pair in lowest terms."""
+    common = gcd(part, whole)
+    return part // common, whole // common

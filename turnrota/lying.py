@@ -5,7 +5,7 @@ each day. The days are counted from the first look: at a made turning this is th
 """
 
 from turnrota.deciding import check_possible, least_misses, possible, surely_missed, wheel_days
-from turnrota.ways import check_wheel, due_day, round_dues
+from turnrota.ways import check_wheel, far_item, round_days, round_dues
 
 
 def longest_lying(season, wheel):
@@ -31,14 +31,20 @@ def surely_lain(season, wheel, day):
 def gap(rota, wheel, misses):
     """The greatest number of days between two made turnings of a wheel, if so many are missed between, or None."""
     check_wheel(rota, wheel)
-    many = len(round_dues(rota, wheel))
-    return max([due_day(rota, wheel, at + misses + 1) - due_day(rota, wheel, at) for at in range(many)], default=None)
+    days = round_dues(rota, wheel)
+    return widest_gap(days, round_days(rota, wheel), misses) if days else None
 
 
 def worst_gap(rota, misses):
     """The greatest gap of all wheels, or None if one has none."""
     gaps = [gap(rota, wheel, misses) for wheel in range(rota.places)]
     return None if None in gaps else max(gaps)
+
+
+def widest_gap(days, period, misses):
+    """The greatest number of days from one of some days, that come again after a period, to the one `misses` + 1
+    of them later."""
+    return max([far_item(days, period, at + misses + 1) - day for at, day in enumerate(days)])
 
 
 def longest_rest(season, wheel):

@@ -43,16 +43,20 @@ def due_day(rota, wheel, at):
     """The day of the turning of a wheel with a number, or None if it is never due."""
     check_wheel(rota, wheel)
     days = round_dues(rota, wheel)
-    if not days:
-        return None
-    rounds, rest = divmod(at, len(days))
-    return rounds * round_days(rota, wheel) + days[rest]
+    return far_item(days, round_days(rota, wheel), at) if days else None
 
 
 def check_wheel(rota, wheel):
     """Raises NoWheel if any value is no number of a wheel; places have the same numbers."""
     if not is_below(wheel, rota.places):
         raise NoWheel(wheel)
+
+
+def far_item(row, period, at):
+    """The item with a number of a row that comes again and again, each time higher by a period; numbers below 0
+    tell earlier ones."""
+    rounds, rest = divmod(at, len(row))
+    return rounds * period + row[rest]
 
 
 def round_spots(rota, wheel):
