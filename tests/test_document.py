@@ -1,4 +1,4 @@
-"""The document's own examples of sections 1 and 4 to 11, word for word."""
+"""The document's own examples of sections 1, 4 to 11 and 15, word for word."""
 
 import doctest
 import unittest
@@ -47,11 +47,16 @@ EXAMPLES = """
     >>> mild = Harm(rota, 0, 4, 1, 2)
     >>> lies_for_ever(mild), mean_harm(mild), harm_of(mild, 4, (1,)), harm_of(mild, 4, ())
     (False, (1, 4), (1, 4), (0, 1))
+
+    >>> from turnrota.desk import Desk
+    >>> desk = Desk()
+    >>> [desk.say(word) for word in ("rota places 2 ; turn 0 move 1 0 ; turn 0 1 move 0 1", "season 6 2", "look 2 0 1", "look 4 1 1", "sides", "least", "count", "gap 0 1", "undo")]
+    ['2', '9', 'fits', 'fits', '? ?', '1', '10', '3', 'undone']
 """
 
 
 class Examples(unittest.TestCase):
     def test_word_for_word(self):
         test = doctest.DocTestParser().get_doctest(EXAMPLES, {}, "DOC.md", None, None)
-        self.assertEqual(len(test.examples), 25)
+        self.assertEqual(len(test.examples), 28)
         self.assertEqual(doctest.DocTestRunner().run(test).failed, 0)

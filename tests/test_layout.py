@@ -19,6 +19,9 @@ CLASSES = {
     "seasons": {"Season": {"__init__": ["rota", "days", "budget", "looks"], "seen": ["looks"], "but": ["budget"],
                            "__eq__": ["other"]}},
     "rings": {"Harm": {"__init__": ["rota", "wheel", "span", "misses", "limit"]}},
+    "live": {"Live": {"__init__": ["season"], "look": ["day", "wheel", "side"], "several": ["looks"],
+                      "follow": ["season"], "undo": [], "trial": [], "within": ["work"], "__len__": []}},
+    "desk": {"Desk": {"__init__": [], "say": ["command"], "__len__": []}},
 }
 FUNCTIONS = {
     "ways": {"place": ["rota", "wheel", "day"], "wheel_on": ["rota", "spot", "day"], "round_days": ["rota", "wheel"],
@@ -42,6 +45,9 @@ FUNCTIONS = {
                "best_looks": ["season", "day"], "settles": ["season", "wheel", "day", "other", "then"]},
     "rings": {"lies_for_ever": ["harm"], "mean_harm": ["harm"], "worst_round": ["harm"],
               "harm_of": ["harm", "days", "missed"]},
+    "papers": {"paper": ["harm", "value"], "paper_holds": ["harm", "value", "paper"]},
+    "comparing": {"never_staler": ["p", "q"], "staler": ["p", "q"], "fair": ["rota"],
+                  "even_rota": ["places", "turned"], "shifted": ["rota", "days"]},
 }
 
 

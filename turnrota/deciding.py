@@ -75,6 +75,13 @@ def possible_sides(season, wheel, day):
     return tuple([up for up in (0, 1) if possible(season.seen([(day, wheel, up)]))])
 
 
+def sure_sides(season):
+    """For each wheel its side behind the last day, or None if it is not sure; None for all if no misses fit."""
+    if not possible(season):
+        return (None,) * season.wheels
+    return tuple([side(season, wheel, season.days) for wheel in range(season.wheels)])
+
+
 def least_misses(season):
     """Some lot of the least number of misses that break no look; there has to be one."""
     return tuple(sorted([pairs[0] for pairs in odd_stretches(season)]))

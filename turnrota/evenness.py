@@ -43,17 +43,12 @@ def first_longer(days, period, others, other_period):
     """The least number of misses with which the gap of some days, that come again after a period, is longer than
     that of others in theirs, or None."""
     gaps, other_gaps = first_gaps(days, period), first_gaps(others, other_period)
-    both = lcm(len(days), len(others))
-    # Behind so many misses more both are as they were, but by so much more ahead.
-    grows = both // len(days) * period - both // len(others) * other_period
-    later = []
-    for misses in range(both):
-        ahead = far_item(gaps, period, misses) - far_item(other_gaps, other_period, misses)
-        if ahead > 0:
+    # The last one of these is whole rounds for both, so what follows are the same gaps, but further by those: who
+    # was not longer up to then will never be.
+    for misses in range(lcm(len(days), len(others))):
+        if far_item(gaps, period, misses) > far_item(other_gaps, other_period, misses):
             return misses
-        if grows > 0:
-            later.append(misses + (-ahead // grows + 1) * both)
-    return min(later, default=None)
+    return None
 
 
 def first_gaps(days, period):

@@ -3,10 +3,15 @@
 from math import gcd
 
 
+def is_integer(value):
+    """Whether any value is an integer."""
+    # Python takes True and False for integers, the document does not.
+    return isinstance(value, int) and not isinstance(value, bool)
+
+
 def is_whole(value, least):
     """Whether any value is an integer from `least` on."""
-    # Python takes True and False for integers, the document does not.
-    return isinstance(value, int) and not isinstance(value, bool) and value >= least
+    return is_integer(value) and value >= least
 
 
 def is_below(value, many):
