@@ -50,16 +50,7 @@ def surely_missed(season):
 def stretches(season, wheel):
     """The stretches (first, last, odd) of a wheel, in order; the open one is last, and `odd` is None for it."""
     check_wheel(season.rota, wheel)
-    days = wheel_days(season, wheel)
-    found = []
-    first, up = 0, 0
-    # Of two looks of one day that gainsay one another, that at side 0 comes first.
-    for day, seen_wheel, seen_up in season.looks:
-        if seen_wheel == wheel:
-            many = len(days_between(days, first, day))
-            found.append((first, day, (many + up + seen_up) % 2 == 1))
-            first, up = day, seen_up
-    return tuple(found) + ((first, season.days, None),)
+    return tuple([(first, last, odd) for first, last, odd, _ in parts(season, wheel)])
 
 
 def slack(season):
@@ -89,18 +80,22 @@ def least_misses(season):
 
 def odd_stretches(season):
     """For each odd stretch of the season the pairs (day, wheel) of its turnings."""
+    return [[(day, wheel) for day in days]
+            for wheel in range(season.wheels) for _, _, odd, days in parts(season, wheel) if odd]
+
+
+def parts(season, wheel):
+    """The stretches of a wheel with the days of their turnings: (first, last, odd, days)."""
     found = []
-    for wheel in range(season.wheels):
-        days = wheel_days(season, wheel)
-        for first, last, odd in stretches(season, wheel):
-            if odd:
-                found.append([(day, wheel) for day in days_between(days, first, last)])
+    first, up = 0, 0
+    # Of two looks of one day that gainsay one another, that at side 0 comes first.
+    for day, seen_wheel, seen_up in season.looks:
+        if seen_wheel == wheel:
+            days = days_between(season.turnings[wheel], first, day)
+            found.append((first, day, (len(days) + up + seen_up) % 2 == 1, days))
+            first, up = day, seen_up
+    found.append((first, season.days, None, days_between(season.turnings[wheel], first, season.days)))
     return found
-
-
-def wheel_days(season, wheel):
-    """The days of the season on which a wheel is due, ascending."""
-    return [day for day, turned in season.due if turned == wheel]
 
 
 def days_between(days, first, last):

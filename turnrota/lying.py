@@ -1,22 +1,24 @@
 """Lying: for how many days a wheel can lie unturned, in a season and for ever.
 
-What is asked of a wheel is said by further looks: it lies unturned as long as they show the same side on
-each day. The days are counted from the first look: at a made turning this is the one ahead of it.
+A *rest* (begin, end) of a wheel is a made turning on the day `begin`, or -1 if there was none yet, and no other
+one up to the beginning of the day `end`.
 """
 
-from turnrota.deciding import check_possible, least_misses, possible, surely_missed, wheel_days
+from turnrota.deciding import least_misses, parts, slack, surely_missed
 from turnrota.ways import check_wheel, far_item, round_days, round_dues
 
 
 def longest_lying(season, wheel):
     """The greatest number of days that a wheel lay unturned, for any misses that fit."""
-    return longest_rest(season, wheel)[0]
+    begin, end = longest_rest(season, wheel)
+    return end - max(begin, 0)
 
 
 def lying_misses(season, wheel):
     """Some pair (day, misses) of misses that fit with which a wheel lay so long at the beginning of this day."""
-    _, day, supposed = longest_rest(season, wheel)
-    return day, least_misses(supposed)
+    begin, end = longest_rest(season, wheel)
+    others = [(day, turned) for day, turned in least_misses(season) if turned != wheel]
+    return end, tuple(sorted(others + [(day, wheel) for day in rest_misses(season, wheel, begin, end)]))
 
 
 def surely_lain(season, wheel, day):
@@ -24,7 +26,7 @@ def surely_lain(season, wheel, day):
     check_wheel(season.rota, wheel)
     missed = surely_missed(season)
     # With some misses the last one of those that can have been made was made, and no later one ever.
-    made = [due for due in wheel_days(season, wheel) if due < day and (due, wheel) not in missed]
+    made = [due for due in season.turnings[wheel] if due < day and (due, wheel) not in missed]
     return day - max(made, default=0)
 
 
@@ -48,29 +50,39 @@ def widest_gap(days, period, misses):
 
 
 def longest_rest(season, wheel):
-    """The greatest number of days that a wheel lay unturned, the day at whose beginning it did, and the season
-    with the looks that say so."""
+    """The days (begin, end) of the longest rest of a wheel that some misses that fit have."""
     check_wheel(season.rota, wheel)
-    check_possible(season)
-    days, end, supposed = 0, 0, season
-    for begin in begins(season, wheel):
-        from_day = begin[0][0]
-        # Who can lie unturned for so many days from here can do so for fewer: only longer ones are tried.
-        while from_day + days < season.days:
-            longer = unturned(season, begin, from_day + days + 1)
-            if not possible(longer):
-                break
-            days, end, supposed = days + 1, from_day + days + 1, longer
-    return days, end, supposed
+    own, left = parts(season, wheel), slack(season)
+    rests = [(begin, rest_end(own, left, begin, season.days)) for begin in (-1,) + season.turnings[wheel]]
+    return max(rests, key=lambda rest: rest[1] - max(rest[0], 0))
 
 
-def begins(season, wheel):
-    """The looks with which a wheel can begin to lie: at side 0 on day 0, or at both sides around a made turning."""
-    made = [((day, wheel, 1 - up), (day + 1, wheel, up)) for day in wheel_days(season, wheel) for up in (0, 1)]
-    return [((0, wheel, 0),)] + made
+def rest_end(own, left, begin, days):
+    """The latest end of a rest that begins on a day, by the stretches of the wheel and the slack that is left."""
+    for _, _, odd, turnings in own:
+        # An odd stretch owes a miss from the beginning, one that is not slack. Beyond it they are spent in pairs, so
+        # that the first one of a pair makes the stretch owe the other one, on a turning that is spare yet.
+        owes, spare = odd, len(turnings)
+        for day in turnings:
+            if day < begin:
+                continue
+            spare -= 1
+            if day > begin and odd is None:
+                left -= 1
+            elif day > begin:
+                left -= 0 if owes else 2
+                owes = not owes
+            if left < 0 or (owes and spare == 0):
+                return day
+    return days
 
 
-def unturned(season, begin, end):
-    """The season in which a wheel begins to lie with these looks, and is not turned up to the beginning of a day."""
-    first, wheel, up = begin[-1]
-    return season.seen(begin + tuple([(day, wheel, up) for day in range(first + 1, end + 1)]))
+def rest_misses(season, wheel, begin, end):
+    """The days of a wheel's misses in a rest, and of those that its stretches owe then."""
+    missed = []
+    for _, _, odd, turnings in parts(season, wheel):
+        resting = [day for day in turnings if begin < day < end]
+        missed.extend(resting)
+        if odd is not None and odd != (len(resting) % 2 == 1):
+            missed.append([day for day in turnings if day < begin or day >= end][0])
+    return missed

@@ -6,7 +6,8 @@ from turnrota.ways import dues_ahead
 
 
 class Season:
-    """So many days of a rota with at most `budget` misses, and looks (day, wheel, side) at its wheels."""
+    """So many days of a rota with at most `budget` misses, and looks (day, wheel, side) at its wheels; `turnings`
+    has the days of the due turnings of each wheel."""
 
     def __init__(self, rota, days, budget, looks=()):
         if not is_whole(days, 1):
@@ -20,7 +21,8 @@ class Season:
         self.budget = budget
         self.looks = tuple(sorted(set(looks)))
         self.wheels = rota.places
-        self.due = due_pairs(rota, days)
+        self.turnings = tuple([tuple(dues_ahead(rota, wheel, days)) for wheel in range(rota.places)])
+        self.due = tuple(sorted([(day, wheel) for wheel, due in enumerate(self.turnings) for day in due]))
 
     def seen(self, looks):
         """The season with these looks, too."""
@@ -74,15 +76,12 @@ def is_look(look, wheels, days):
     return is_below(day, days + 1) and is_below(wheel, wheels) and is_below(up, 2)
 
 
-def due_pairs(rota, days):
-    """All pairs (day, wheel) of so many days that are due, ascending."""
-    return tuple(sorted([(day, wheel) for wheel in range(rota.places) for day in dues_ahead(rota, wheel, days)]))
-
-
 def is_turning(season, pair):
     """Whether any value is a pair (day, wheel) of the season that is due."""
-    # (True, 0) is equal to (1, 0), but no pair of integers.
-    return isinstance(pair, tuple) and all([is_whole(part, 0) for part in pair]) and pair in season.due
+    if not isinstance(pair, tuple) or len(pair) != 2:
+        return False
+    day, wheel = pair
+    return is_below(wheel, season.wheels) and is_whole(day, 0) and day in season.turnings[wheel]
 
 
 def made_turnings(season, misses):
