@@ -6,9 +6,7 @@ from fractions import Fraction
 from turnrota.rings import Harm
 from turnrota.rotas import Rota
 
-from tests.samples import first_rota, walk
-
-DAILY = Rota(1, [([0], [0])])
+from tests.samples import DAILY, first_rota, walk
 
 
 def mild_harm():

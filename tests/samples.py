@@ -2,10 +2,15 @@
 
 import random
 from itertools import permutations, product
+from math import comb
 
 from turnrota.errors import TurnError
 from turnrota.rotas import Rota
 from turnrota.seasons import Season
+
+
+DAILY = Rota(1, [([0], [0])])
+SIX = Rota(6, [([0, 1, 2, 3, 4, 5], (1, 2, 3, 4, 5, 0))] * 7)
 
 
 def first_rota():
@@ -16,6 +21,16 @@ def first_rota():
 def first_season():
     """The season of the document's examples."""
     return Season(first_rota(), 6, 2, [(2, 0, 1), (4, 1, 1)])
+
+
+# No misses fit: too few may be missed, or all misses break a look.
+TOO_FEW = Season(first_rota(), 6, 0, [(2, 0, 1)])
+NEVER = Season(first_rota(), 6, 60, [(2, 0, 1), (2, 0, 0)])
+
+
+def within(many, budget):
+    """How many lots there are of at most so many of so many turnings."""
+    return sum(comb(many, misses) for misses in range(budget + 1))
 
 
 def nested(depth, inner):

@@ -2,7 +2,6 @@
 
 import copy
 import unittest
-from math import comb
 
 from turnrota.asking import best_looks, left_by, results, settles
 from turnrota.deciding import side
@@ -10,18 +9,8 @@ from turnrota.errors import NoFit, NoWheel
 from turnrota.rotas import Rota
 from turnrota.seasons import Season
 
-from tests.samples import first_rota, first_season, no_wheels, odd_values, raised
+from tests.samples import DAILY, NEVER, SIX, TOO_FEW, first_rota, first_season, no_wheels, odd_values, raised, within
 from tests.trial import trials
-
-DAILY = Rota(1, [([0], [0])])
-SIX = Rota(6, [([0, 1, 2, 3, 4, 5], (1, 2, 3, 4, 5, 0))] * 7)
-TOO_FEW = Season(first_rota(), 6, 0, [(2, 0, 1)])
-NEVER = Season(first_rota(), 6, 60, [(2, 0, 1), (2, 0, 0)])
-
-
-def within(many, budget):
-    """How many lots there are of at most so many of so many turnings."""
-    return sum(comb(many, misses) for misses in range(budget + 1))
 
 
 class AgainstTrials(unittest.TestCase):

@@ -8,13 +8,8 @@ from turnrota.errors import NoFit, NoTurning, NoWheel
 from turnrota.rotas import Rota
 from turnrota.seasons import Season, fits
 
-from tests.samples import first_rota, first_season, large_rotas, no_wheels, odd_values, raised
+from tests.samples import DAILY, NEVER, TOO_FEW, first_rota, first_season, large_rotas, no_wheels, odd_values, raised
 from tests.trial import trials
-
-DAILY = Rota(1, [([0], [0])])
-# No misses fit: too few may be missed, or all misses break a look.
-TOO_FEW = Season(first_rota(), 6, 0, [(2, 0, 1)])
-NEVER = Season(first_rota(), 6, 60, [(2, 0, 1), (2, 0, 0)])
 
 
 def sure(values):

@@ -9,10 +9,9 @@ from turnrota.live import Live
 from turnrota.rotas import Rota
 from turnrota.seasons import Season
 
-from tests.samples import first_rota, first_season, odd_values, raised
+from tests.samples import DAILY, first_rota, first_season, odd_values, raised
 from tests.trial import made_seasons, special_seasons
 
-DAILY = Rota(1, [([0], [0])])
 LOOKS = ((2, 0, 1), (4, 1, 1), (6, 0, 0), (6, 1, 1), (0, 0, 0))
 
 

@@ -1,21 +1,32 @@
 """[15], [16] Lying, held against a trial of all lots of misses, and gaps, held against going day by day."""
 
 import copy
+import random
 import unittest
 
+from turnrota.deciding import possible
 from turnrota.errors import NoFit, NoWheel
 from turnrota.lying import gap, longest_lying, lying_misses, surely_lain, worst_gap
 from turnrota.rotas import Rota
-from turnrota.seasons import Season, fits, lain
+from turnrota.seasons import Season, fits, lain, sides
 from turnrota.ways import due_day
 
-from tests.samples import first_rota, first_season, large_rotas, no_wheels, raised, small_rotas, walk
+from tests.samples import (DAILY, NEVER, TOO_FEW, first_rota, first_season, large_rotas, no_wheels, raised,
+                           small_rotas, walk)
 from tests.trial import course, trials
 
-DAILY = Rota(1, [([0], [0])])
-TOO_FEW = Season(first_rota(), 6, 0, [(2, 0, 1)])
-NEVER = Season(first_rota(), 6, 60, [(2, 0, 1), (2, 0, 0)])
 FAR = 10 ** 9
+
+
+def many_seasons():
+    """Seasons of many days with looks, always the same ones."""
+    source = random.Random(31)
+    for rota in [*large_rotas()] * 5:
+        days = source.randint(10, 40)
+        missed = [pair for pair in Season(rota, days, 0).due if source.random() < 0.15]
+        looks = [(day, wheel, sides(Season(rota, days, 0), missed, day)[wheel])
+                 for day, wheel in [(source.randint(0, days), source.randrange(rota.places)) for _ in range(8)]]
+        yield Season(rota, days, source.randint(2, 12), looks)
 
 
 class AgainstTrials(unittest.TestCase):
@@ -89,6 +100,25 @@ class ByHand(unittest.TestCase):
         self.assertTrue(fits(season, misses))
         self.assertEqual(lain(season, misses, day)[0], 3)
 
+    def test_a_rest_ahead_of_a_stretch_that_owes_a_miss(self):
+        # The turning of day 5 was made; of the two of the days 6 and 7 one was missed.
+        rota = Rota(1, [([], [0])] * 5 + [([0], [0])] * 3)
+        season = Season(rota, 8, 1, [(5, 0, 0), (6, 0, 1), (8, 0, 0)])
+        self.assertEqual(longest_lying(season, 0), 5)
+        day, misses = lying_misses(season, 0)
+        self.assertEqual(day, 5)
+        self.assertIn(misses, (((6, 0),), ((7, 0),)))
+
+    def test_a_rest_between_stretches_that_owe_a_miss(self):
+        # One of the first two turnings was missed, those of the days 2 and 3 were made, one of the last two was not.
+        rota = Rota(1, [([0], [0])] * 3 + [([], [0])] * 6 + [([0], [0])] * 3)
+        season = Season(rota, 12, 2, [(2, 0, 1), (3, 0, 0), (10, 0, 1), (12, 0, 0)])
+        self.assertEqual(longest_lying(season, 0), 7)
+        day, misses = lying_misses(season, 0)
+        self.assertEqual(day, 9)
+        self.assertTrue(fits(season, misses))
+        self.assertEqual(lain(season, misses, 9), (7,))
+
     def test_a_season_of_one_day(self):
         for rota in (DAILY, Rota(1, [((), (0,))])):
             season = Season(rota, 1, 0)
@@ -97,6 +127,25 @@ class ByHand(unittest.TestCase):
 
 
 class LongSeasons(unittest.TestCase):
+    def test_the_misses_show_the_longest_whatever_was_seen(self):
+        for season in many_seasons():
+            for wheel in range(season.wheels):
+                if raised(longest_lying, season, wheel) is None:
+                    day, misses = lying_misses(season, wheel)
+                    self.assertTrue(fits(season, misses))
+                    self.assertEqual(misses, tuple(sorted(set(misses))))
+                    self.assertEqual(lain(season, misses, day)[wheel], longest_lying(season, wheel))
+
+    def test_no_further_looks_can_show_a_longer_one(self):
+        for season in list(many_seasons())[::4]:
+            if raised(longest_lying, season, 0) is None:
+                days = longest_lying(season, 0) + 1
+                for first in range(season.days - days + 1):
+                    for up in (0, 1) if first else (0,):
+                        shown = [(day, 0, up) for day in range(first, first + days + 1)]
+                        begun = (first - 1, 0, 1 - up)
+                        self.assertFalse(possible(season.seen(shown + [begun] if first else shown)))
+
     def test_the_misses_show_the_longest(self):
         for rota in large_rotas():
             for looks in ([], [(20, 0, 0), (41, 0, 0), (60, 0, 1)]):

@@ -10,8 +10,8 @@ from turnrota.papers import paper, paper_holds
 from turnrota.rings import Harm, lies_for_ever, mean_harm
 from turnrota.rotas import Rota
 
-from tests.harms import DAILY, due_flags, large_harms, mild_harm, some_harms
-from tests.samples import first_rota, odd_values
+from tests.harms import due_flags, large_harms, mild_harm, some_harms
+from tests.samples import DAILY, first_rota, odd_values
 
 
 def next_made(harm, flags, stand):

@@ -9,8 +9,8 @@ from turnrota.errors import InvalidSeason, NoWheel
 from turnrota.rings import Harm, harm_of, lies_for_ever, mean_harm, worst_round
 from turnrota.rotas import Rota
 
-from tests.harms import DAILY, can_lie, due_flags, large_harms, mild_harm, none_is_greater, some_harms, walked_harm
-from tests.samples import first_rota, no_wheels, odd_values, raised
+from tests.harms import can_lie, due_flags, large_harms, mild_harm, none_is_greater, some_harms, walked_harm
+from tests.samples import DAILY, first_rota, no_wheels, odd_values, raised
 
 NO_WHOLE = [True, False, None, "", "1", [], (1,), [1], ((),), -1, -(10 ** 18)]
 
